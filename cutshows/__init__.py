@@ -1,0 +1,1 @@
+"""Cutshows: rows left out of a program, and whether it still shows the same."""
