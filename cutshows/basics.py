@@ -2,6 +2,7 @@
 
 LETTERS = "abcdefghijklmnopqrstuvwxyz"
 MOST_LETTERS = 8
+MOST_BOXES = 3
 
 
 def is_integer(value):
@@ -21,9 +22,19 @@ def is_name(value):
     return all([letter in LETTERS for letter in value])
 
 
+def is_list(value):
+    """Whether the value is a list, or a tuple, which may stand in the place of one."""
+    return isinstance(value, (list, tuple))
+
+
 def is_where(value):
     """Whether the value is a where: a tuple, perhaps empty, of passes and of labels of calls."""
     return isinstance(value, tuple) and all([_is_pass(step) or is_name(step) for step in value])
+
+
+def replaced_in(values, position, value):
+    """A tuple with another value at a position."""
+    return values[:position] + (value,) + values[position + 1:]
 
 
 def _is_pass(value):

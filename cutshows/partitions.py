@@ -12,7 +12,7 @@ class Partition:
     MOST_HOLDERS = 8
 
     def __init__(self, classes):
-        if not _are_classes(classes):
+        if not are_classes(classes):
             raise InvalidClasses(classes)
         self._classes = tuple(classes)
 
@@ -52,7 +52,7 @@ class Partition:
     def __and__(self, other):
         """The meet: alike are those that are alike in both."""
         _check_pair(self, other)
-        return Partition(_numbered(_met(self._classes, other._classes)))
+        return Partition(numbered(_met(self._classes, other._classes)))
 
     def __rand__(self, other):
         # Only a value that is no partition on the left side leads here.
@@ -61,7 +61,7 @@ class Partition:
     def __or__(self, other):
         """The join: the finest one than which both are finer, or to which they are equal."""
         _check_pair(self, other)
-        return Partition(_numbered(_joined(self._classes, other._classes)))
+        return Partition(numbered(_joined(self._classes, other._classes)))
 
     def __ror__(self, other):
         # Only a value that is no partition on the left side leads here.
@@ -70,7 +70,7 @@ class Partition:
     def is_finer(self, other):
         """Whether it is finer than the other one, or equal to it."""
         _check_pair(self, other)
-        return _numbered(_met(self._classes, other._classes)) == list(self._classes)
+        return numbered(_met(self._classes, other._classes)) == list(self._classes)
 
     def is_alike(self, *holders):
         """Whether these are all alike; nobody is alike with one that is gone, not even itself."""
@@ -89,23 +89,23 @@ class Partition:
     def copied(self, target, source):
         """The same with the target in the class of source, or gone, if source is."""
         _check_holders(self._classes, [target, source])
-        return Partition(_numbered(_marked(self._classes, [target], self._classes[source])))
+        return Partition(numbered(_marked(self._classes, [target], self._classes[source])))
 
     def fresh(self, *targets):
         """The same with these together in a new class."""
         _check_holders(self._classes, targets)
-        return Partition(_numbered(_marked(self._classes, targets, len(self._classes))))
+        return Partition(numbered(_marked(self._classes, targets, len(self._classes))))
 
     def without(self, *holders):
         """The same with these gone."""
         _check_holders(self._classes, holders)
-        return Partition(_numbered(_marked(self._classes, holders, GONE)))
+        return Partition(numbered(_marked(self._classes, holders, GONE)))
 
     def renamed(self, order):
         """The one in which the holder k is what the holder order[k] is here."""
         if not _is_order(order, len(self._classes)):
             raise InvalidHolder(order)
-        return Partition(_numbered([self._classes[holder] for holder in order]))
+        return Partition(numbered([self._classes[holder] for holder in order]))
 
 
 def all_partitions(many):
@@ -153,12 +153,12 @@ def _gone_marks(classes):
     return [number == GONE for number in classes]
 
 
-def _are_classes(value):
+def are_classes(value):
     if not isinstance(value, (list, tuple)) or not 1 <= len(value) <= Partition.MOST_HOLDERS:
         return False
     if not all([is_integer(number) for number in value]):
         return False
-    return _numbered(value) == list(value)
+    return numbered(value) == list(value)
 
 
 def _is_order(value, many):
@@ -167,7 +167,7 @@ def _is_order(value, many):
     return sorted(value) == list(range(many))
 
 
-def _numbered(marks):
+def numbered(marks):
     """The classes of holders with these marks: those with the same are alike, those with GONE are gone."""
     told = []
     for mark in marks:

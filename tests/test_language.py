@@ -18,6 +18,13 @@ LIBRARY = {
     "itertools": {"product", "combinations", "permutations"},
 }
 TAKE_LISTS = {"any", "all", "min", "max", "sum", "sorted"}
+UNCHANGING = {"__eq__", "__repr__", "__str__", "__len__"}
+PLAIN = (ast.Constant, ast.Tuple, ast.List, ast.Dict, ast.UnaryOp, ast.USub, ast.Load)
+WORDS = set(
+    "typing typing_extensions enum Enum IntEnum StrEnum Flag IntFlag Generic Protocol ABC ABCMeta namedtuple "
+    "NamedTuple TypedDict TYPE_CHECKING abstractmethod".split()
+)
+NAMES = set("register mro elements open input law version_info with_traceback add_note".split())
 NOT_USED = (
     ast.Global, ast.AsyncFunctionDef, ast.AsyncFor, ast.AsyncWith, ast.Await, ast.Import, ast.Div,
 )
@@ -83,7 +90,8 @@ class Language(unittest.TestCase):
 
     def test_builtins(self):
         import builtins
-        known = set(dir(builtins))
+        # Examples that are run leave their last value behind under this name.
+        known = set(dir(builtins)) - {"_"}
         for path, tree in self.trees.items():
             bound = names_of(tree)
             self.assertEqual(bound & known, set(), path)
@@ -118,6 +126,87 @@ class Language(unittest.TestCase):
             methods = {part.name for part in node.body if isinstance(part, ast.FunctionDef)}
             if "__getitem__" in methods:
                 self.assertIn("__iter__", methods, where)
+
+    def test_module_level(self):
+        for path, tree in self.trees.items():
+            for place, node in enumerate(tree.body):
+                if isinstance(node, ast.Assign):
+                    self.assertIsInstance(node.targets[0], ast.Name)
+                    self.assertEqual(len(node.targets), 1)
+                    for part in ast.walk(node.value):
+                        self.assertIsInstance(part, PLAIN, f"{path.name}:{node.lineno}")
+                elif isinstance(node, ast.Expr):
+                    self.assertEqual(place, 0, f"{path.name}:{node.lineno}")
+                else:
+                    self.assertIsInstance(node, (ast.ImportFrom, ast.FunctionDef, ast.ClassDef))
+
+    def test_no_two_files_import_from_each_other(self):
+        imported = {
+            f"cutshows.{path.stem}": {node.module for node in tree.body if isinstance(node, ast.ImportFrom)}
+            for path, tree in self.trees.items()
+        }
+        for name in imported:
+            waiting, found = list(imported[name]), set()
+            while waiting:
+                other = waiting.pop()
+                if other not in found and other in imported:
+                    found.add(other)
+                    waiting.extend(imported[other])
+            self.assertNotIn(name, found)
+
+    def test_methods_that_assign_nothing(self):
+        for where, node in self.nodes(ast.FunctionDef):
+            if node.name in UNCHANGING:
+                for part in ast.walk(node):
+                    self.assertNotIsInstance(part, (ast.Assign, ast.AugAssign, ast.AnnAssign, ast.Delete), where)
+                self.assertIsInstance(node.body[-1], ast.Return, where)
+
+    def test_what_exit_does(self):
+        for where, node in self.nodes(ast.FunctionDef):
+            for row in node.body if node.name == "__exit__" else []:
+                self.assertIsInstance(row, ast.Assign, where)
+                self.assertIsInstance(row.targets[0], ast.Attribute, where)
+                self.assertIsInstance(row.value, (ast.Attribute, ast.Constant), where)
+
+    def test_methods_attributes_and_properties(self):
+        methods, properties, stored = {}, set(), {}
+        for where, node in self.nodes(ast.ClassDef):
+            for part in node.body:
+                if isinstance(part, ast.FunctionDef):
+                    told = [ast.unparse(sign) for sign in part.decorator_list]
+                    methods.setdefault(part.name, set()).add(node.name)
+                    properties.update([part.name] if told == ["property"] else [])
+            for part in ast.walk(node):
+                if isinstance(part, ast.Attribute) and isinstance(part.ctx, ast.Store):
+                    stored.setdefault(part.attr, set()).add(node.name)
+        for name in stored:
+            self.assertNotIn(name, methods)
+        for name in properties:
+            self.assertEqual(len(methods[name]), sum(
+                isinstance(part, ast.FunctionDef) and part.name == name and bool(part.decorator_list)
+                for _, node in self.nodes(ast.ClassDef) for part in node.body
+            ), name)
+
+    def test_reversed(self):
+        for where, node in self.nodes(ast.Call):
+            if isinstance(node.func, ast.Name) and node.func.id == "reversed":
+                self.assertIsInstance(node.args[0], ast.Call, where)
+                self.assertIn(ast.unparse(node.args[0].func), {"list", "tuple", "sorted", "range"}, where)
+
+    def test_generators(self):
+        names = [node.name for _, node in self.nodes(ast.FunctionDef)]
+        for where, node in self.nodes(ast.FunctionDef):
+            parts = list(ast.walk(node))
+            if any(isinstance(part, (ast.Yield, ast.YieldFrom)) for part in parts):
+                self.assertEqual(names.count(node.name), 1, where)
+                self.assertFalse(any(isinstance(part, (ast.Try, ast.With)) for part in parts), where)
+
+    def test_names_that_are_not_used(self):
+        for where, node in self.nodes(ast.Name, ast.arg, ast.Attribute, ast.FunctionDef, ast.ClassDef, ast.keyword):
+            for field in ("id", "arg", "attr", "name"):
+                self.assertNotIn(getattr(node, field, None), NAMES, where)
+        for path, text in self.texts.items():
+            self.assertEqual(set(re.findall(r"[A-Za-z_]+", text)) & WORDS, set(), path)
 
     def test_words_that_are_not_used(self):
         for path, text in self.texts.items():

@@ -1,6 +1,5 @@
 """Partitions, against a direct look at all their holders and pairs of holders."""
 
-import doctest
 import inspect
 import itertools
 import unittest
@@ -8,6 +7,7 @@ import unittest
 from cutshows import partitions
 from cutshows.errors import InvalidClasses, InvalidHolder, InvalidPartition, OtherHolders
 from cutshows.partitions import Partition, all_partitions, count_of
+from tests import common
 
 EXAMPLES = """
 >>> from cutshows.partitions import Partition
@@ -89,27 +89,14 @@ SOME_LARGE = [
 ALL = SMALL + SOME_LARGE
 
 
-class Case(unittest.TestCase):
-    def raised(self, kind, attributes, action, *told, **more):
-        """The error is of just this kind, and these are its attributes."""
-        with self.assertRaises(kind) as caught:
-            action(*told, **more)
-        self.assertIs(caught.exception.__class__, kind)
-        self.assertEqual(vars(caught.exception), attributes)
-        for name, value in attributes.items():
-            self.assertIs(getattr(caught.exception, name).__class__, value.__class__)
-
+class Case(common.Case):
     def no_holder(self, value, action, *told, **more):
         self.raised(InvalidHolder, {"value": value}, action, *told, **more)
 
 
-class Examples(unittest.TestCase):
+class Examples(Case):
     def test_word_for_word(self):
-        example = doctest.DocTestParser().get_doctest(EXAMPLES, {}, "Stage 1", None, 0)
-        self.assertEqual(len(example.examples), 3)
-        shown = []
-        result = doctest.DocTestRunner(verbose=False).run(example, out=shown.append)
-        self.assertEqual(result.failed, 0, "".join(shown))
+        self.word_for_word(EXAMPLES, 3, "Stage 1")
 
 
 class Interface(unittest.TestCase):
