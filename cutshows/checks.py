@@ -1,7 +1,9 @@
 """Checks of the parameters that many functions have, by their names; each raises the error of its parameter."""
 
 from cutshows.basics import is_count, is_list, is_where
-from cutshows.errors import InvalidLabels, InvalidPoint, InvalidProgram, InvalidVow, InvalidYes, UnknownLabel
+from cutshows.errors import (
+    InvalidLabels, InvalidPoint, InvalidProgram, InvalidVow, InvalidWish, InvalidYes, UnknownLabel,
+)
 from cutshows.programs import Program
 
 # Again in standings.py, which stands behind the plays that ask for a vow here.
@@ -41,8 +43,21 @@ def check_yes(program, yes):
 
 
 def check_vow(vow):
-    if not isinstance(vow, str) or vow not in KNOWN_VOWS:
+    if not is_vow(vow):
         raise InvalidVow(vow)
+
+
+def check_wish(wish):
+    if not is_list(wish) or len(wish) == 0:
+        raise InvalidWish(None)
+    for position, vow in enumerate(wish):
+        if not is_vow(vow) or vow in wish[:position]:
+            raise InvalidWish(position)
+
+
+def is_vow(value):
+    """Whether any value is a vow."""
+    return isinstance(value, str) and value in KNOWN_VOWS
 
 
 def _is_answered(value, asked):

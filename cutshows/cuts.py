@@ -1,6 +1,6 @@
 """Cuts: which rows are left out, and what must go with them."""
 
-from cutshows.checks import check_labels, check_program
+from cutshows.checks import check_labels, check_program, check_vow, check_wish
 from cutshows.errors import NotClosed
 from cutshows.programs import Program
 from cutshows.rows import rows_without
@@ -35,13 +35,34 @@ def all_closed(program):
 
 def cut_program(program, labels):
     """The program without these rows, and without the parts that no call reaches any more."""
-    check_program(program)
-    check_labels(program, labels)
-    check_closed(program, labels)
+    check_cut(program, labels)
     parts = program.parts()
     kept = {name: rows_without(parts[name], labels) for name in program.parts_from("", labels)}
     main = rows_without(program.rows(), labels)
     return Program(program.boxes(), main, pointers=program.pointers(), parts=kept)
+
+
+def check_cut(program, labels):
+    """Raises the errors of a program and a closed cut."""
+    check_program(program)
+    check_labels(program, labels)
+    check_closed(program, labels)
+
+
+def check_cut_and_vow(program, labels, vow):
+    """Raises the errors of a program, a closed cut, and a vow behind them."""
+    check_program(program)
+    check_labels(program, labels)
+    check_vow(vow)
+    check_closed(program, labels)
+
+
+def check_cut_and_wish(program, labels, wish):
+    """Raises the errors of a program, a closed cut, and a wish behind them."""
+    check_program(program)
+    check_labels(program, labels)
+    check_wish(wish)
+    check_closed(program, labels)
 
 
 def check_closed(program, labels):

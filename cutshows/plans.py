@@ -30,9 +30,9 @@ class Plan:
         self._enter(rows, {"calls": (), "chain": (), "after": self.end, "stop": self.end})
         self._check_limits()
 
-    def first_where(self):
-        """The where of the first point."""
-        return _begun(self.chains[0])
+    def first_where(self, point=0):
+        """The where of the first point; of another one, if a program without some rows begins there."""
+        return _begun(self.chains[point])
 
     def next_where(self, start, where, aim):
         """The where at the aim of a way that leads there from the start, at which it was that where."""

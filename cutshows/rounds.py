@@ -1,7 +1,7 @@
 """Rounds: the ways of a cut program by the points of the whole one, and where it can stay and show."""
 
-from cutshows.checks import check_labels, check_point, check_program
-from cutshows.cuts import check_closed
+from cutshows.checks import check_point
+from cutshows.cuts import check_cut
 from cutshows.errors import InvalidPoint
 from cutshows.points import told_ways
 
@@ -10,7 +10,8 @@ class Routes:
     """The ways of a program without the rows of a closed cut; they never change.
 
     `skipped` tells of each point whether it is left out, `leading` to which points its ways lead, as that of a plan
-    does (none from one that is left out), `start` is the first point.
+    does (none from one that is left out), `start` is the first point. What was found out is kept, as the same is
+    asked of many standings.
     """
 
     def __init__(self, program, cut):
@@ -20,16 +21,22 @@ class Routes:
         self.skipped = [told[1] in cut or any([call in cut for call in told[2]]) for told in plan.told]
         self.leading = [self._led(point, aims) for point, aims in enumerate(plan.leading)]
         self.start = self._onward(0)
+        self._rounds = {}
+        self._shows = {}
 
     def is_round(self, point, other):
         """Whether the point is round below the other one."""
-        return point in self._spread(point, other)
+        if (point, other) not in self._rounds:
+            self._rounds[(point, other)] = point in self._spread(point, other)
+        return self._rounds[(point, other)]
 
     def can_show(self, point):
         """Whether a show is there, or can be reached from there."""
-        found = [point] + self._spread(point, len(self.skipped))
-        rows = [self._doing[reached] for reached in found]
-        return any([row is not None and row[0] == "show" for row in rows])
+        if point not in self._shows:
+            found = [point] + self._spread(point, len(self.skipped))
+            rows = [self._doing[reached] for reached in found]
+            self._shows[point] = any([row is not None and row[0] == "show" for row in rows])
+        return self._shows[point]
 
     def _led(self, point, aims):
         """Where the ways from a point lead that lead to these in the whole program."""
@@ -83,9 +90,7 @@ def can_show(program, labels, point):
 
 
 def _routes(program, labels):
-    check_program(program)
-    check_labels(program, labels)
-    check_closed(program, labels)
+    check_cut(program, labels)
     return Routes(program, labels)
 
 

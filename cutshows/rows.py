@@ -25,8 +25,8 @@ SHAPES = {
 class Reader:
     """Looks at rows in text order, and knows the names that may stand in them; `seen` are the labels so far."""
 
-    def __init__(self, boxes, pointers, parts):
-        self.seen = {}
+    def __init__(self, boxes, pointers, parts, labels=()):
+        self.seen = {label: True for label in labels}
         self._names = {
             "operand": [*boxes, *pointers],
             "pointer": list(pointers),

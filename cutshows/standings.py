@@ -1,8 +1,7 @@
 """Standings: a program and a cut side by side, and which of their boxes hold the same."""
 
 from cutshows.basics import is_count, replaced_in
-from cutshows.checks import check_labels, check_program, check_vow
-from cutshows.cuts import check_closed
+from cutshows.cuts import check_cut, check_cut_and_vow
 from cutshows.errors import InvalidPlay, InvalidStanding
 from cutshows.partitions import GONE, are_classes, numbered
 from cutshows.plays import Play
@@ -138,10 +137,8 @@ def moves_from(program, labels, standing):
 
 def is_wrong(program, labels, standing, vow):
     """Whether a standing is wrong for a vow."""
-    check_program(program)
-    check_labels(program, labels)
-    check_vow(vow)
-    pair = _pair(program, labels)
+    check_cut_and_vow(program, labels, vow)
+    pair = Pair(program, labels)
     _check_standing(pair, standing)
     return pair.is_wrong(standing, vow)
 
@@ -163,9 +160,7 @@ def through(play):
 
 
 def _pair(program, labels):
-    check_program(program)
-    check_labels(program, labels)
-    check_closed(program, labels)
+    check_cut(program, labels)
     return Pair(program, labels)
 
 

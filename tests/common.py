@@ -1,11 +1,18 @@
 """What several tests share: a look at errors, values of all kinds, and programs."""
 
 import doctest
+import inspect
+import itertools
 import random
 import unittest
 
-from cutshows.errors import CutError, LimitError, StateError
+from cutshows.errors import (
+    CutError, InvalidLabels, InvalidPoint, InvalidProgram, InvalidVow, InvalidWish, LimitError, NotClosed, StateError,
+    TooMany, UnknownLabel,
+)
 from cutshows.programs import Program
+
+WORDS = ("shows", "no more", "ends")
 
 
 class Unwilling:
@@ -39,6 +46,62 @@ class Case(unittest.TestCase):
             if found[name] is not value:
                 self.assertEqual(found[name], value)
 
+    def defined(self, file, parameters):
+        """These functions stand in the file itself, with these parameters, a star in front of those told by name."""
+        for function, names in parameters.items():
+            self.assertEqual(function.__module__, file.__name__)
+            told = inspect.signature(function).parameters.values()
+            self.assertEqual([("*" if one.kind is one.KEYWORD_ONLY else "") + one.name for one in told], names.split())
+
+    def wrong_programs(self, action):
+        """The action raises the error of each value that is no program, and does nothing else with it."""
+        for value in [*OTHERS, 1, "small", [], (), small, Program]:
+            self.raised(InvalidProgram, {"value": value}, action, value)
+
+    def wrong_labels(self, action):
+        """The action raises the error of lists of labels of the small program that are none."""
+        for value in [*OTHERS, 1, "s", small()]:
+            self.raised(InvalidLabels, {"position": None}, action, value)
+        for value in [*OTHERS, 0, "z", "a", "ls", ["w"], ("w",)]:
+            self.raised(InvalidLabels, {"position": 0}, action, [value, value])
+            self.raised(InvalidLabels, {"position": 1}, action, ("l", value, "l"))
+        self.raised(InvalidLabels, {"position": 1}, action, ["l", "l"])
+        self.raised(InvalidLabels, {"position": 2}, action, ("s", "w", "s", 0))
+
+    def not_closed(self, action):
+        """The action raises the error of cuts of the small program that are not closed."""
+        for labels in (["l"], ("w", "l"), ["l", "w"]):
+            self.raised(NotClosed, {"label": "s"}, action, labels)
+
+    def wrong_label(self, action):
+        """The action raises the error of what is no label of the small program."""
+        for value in [*OTHERS, 0, "z", "b", "ls", ["s"], ("s",), small()]:
+            self.raised(UnknownLabel, {"value": value}, action, value)
+
+    def wrong_points(self, action):
+        """The action raises the error of what is no point of the small program."""
+        for value in [*OTHERS, "0", 5, 999999999, [0], (0,), ("row", "s", ()), small()]:
+            self.raised(InvalidPoint, {"value": value}, action, value)
+
+    def wrong_vows(self, action):
+        """The action raises the error of what is no vow."""
+        for value in [*OTHERS, 0, "show", "Ends", "no  more", "ends ", ["shows"], ("shows",), WORDS, small()]:
+            self.raised(InvalidVow, {"value": value}, action, value)
+
+    def wrong_wishes(self, action):
+        """The action raises the error of what is no wish."""
+        for value in [*OTHERS, 0, "shows", [], (), small()]:
+            self.raised(InvalidWish, {"position": None}, action, value)
+        for value in [*OTHERS, 0, "show", "Ends", "no  more", ["shows"], ("shows",)]:
+            self.raised(InvalidWish, {"position": 0}, action, (value, value))
+            self.raised(InvalidWish, {"position": 1}, action, ["ends", value, "ends"])
+        self.raised(InvalidWish, {"position": 1}, action, ["ends", "ends"])
+        self.raised(InvalidWish, {"position": 2}, action, ("no more", "ends", "no more", None))
+        self.raised(InvalidWish, {"position": 3}, action, [*WORDS, "shows"])
+
+    def too_many(self, what, limit, action, *told, **more):
+        self.raised(TooMany, {"what": what, "limit": limit}, action, *told, **more)
+
     def word_for_word(self, text, many, name):
         """A text of examples shows just what stands there."""
         example = doctest.DocTestParser().get_doctest(text, {}, name, None, 0)
@@ -51,6 +114,30 @@ class Case(unittest.TestCase):
 def small():
     """The program of the document's examples."""
     return Program(["a", "b"], [("loop", "l", ["a"], [("set", "s", "a", ["a"])]), ("show", "w", "b")])
+
+
+def wishes():
+    """All wishes, in each sequence of their vows."""
+    return [list(vows) for many in (1, 2, 3) for vows in itertools.permutations(WORDS, many)]
+
+
+def great_rows():
+    return [("loop", "l", ["b"], [
+        ("if", "b", ["a"], [("point", "c", "q", "p")], []),
+        ("if", "d", ["a"], [("copy", "e", "q", "p")], [("set", "f", "p", ["a"])]),
+        ("if", "g", ["a"], [("point", "h", "p", "b")], []),
+    ])]
+
+
+def great():
+    """A program of eight rows; the table of the cut with f is too great, that with e and f has 3,686 standings."""
+    return Program(["a", "b", "c"], great_rows(), pointers={"p": "a", "q": "c"})
+
+
+def greater():
+    """A program of ten rows; without the row x the first move leads to a wrong standing for "shows"."""
+    rows = [("set", "s", "a", []), ("show", "x", "a"), *great_rows()]
+    return Program(["a", "b", "c"], rows, pointers={"p": "a", "q": "c"})
 
 
 def samples():
