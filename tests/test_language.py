@@ -99,6 +99,23 @@ class Language(unittest.TestCase):
                 if isinstance(node, ast.Name) and node.id in known:
                     self.assertIn(node.id, BUILTINS, f"{path.name}:{node.lineno}")
 
+    def test_locals_have_no_names_of_classes_and_imports(self):
+        for path, tree in self.trees.items():
+            told = {alias.name for node in ast.walk(tree) if isinstance(node, ast.ImportFrom) for alias in node.names}
+            told |= {node.name for node in tree.body if isinstance(node, ast.ClassDef)}
+            for function in ast.walk(tree):
+                if isinstance(function, ast.FunctionDef):
+                    stored = {node.arg for node in ast.walk(function) if isinstance(node, ast.arg)}
+                    stored |= {node.id for node in ast.walk(function)
+                               if isinstance(node, ast.Name) and isinstance(node.ctx, ast.Store)}
+                    self.assertEqual(stored & told, set(), f"{path.name}:{function.lineno}")
+
+    def test_sets_are_not_kept(self):
+        for where, node in self.nodes(ast.Assign):
+            self.assertNotIsInstance(node.value, (ast.Set, ast.SetComp), where)
+            if isinstance(node.value, ast.Call):
+                self.assertNotIn(ast.unparse(node.value.func), ("set", "frozenset"), where)
+
     def test_decorators(self):
         allowed = {"property", "classmethod", "staticmethod"}
         for where, node in self.nodes(ast.FunctionDef, ast.ClassDef):

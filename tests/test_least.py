@@ -92,6 +92,18 @@ class ByHand(Case):
         program = Program(["a", "b"], [("copy", "c", "a", "b"), ("copy", "d", "a", "b"), ("show", "e", "a")])
         self.assertEqual([least_cuts(program, ["shows"]), bars(program, VOWS)], [[["c"], ["d"]], [("c", "d")]])
 
+    def test_pairs_whose_labels_do_not_ascend_in_the_text(self):
+        rows = [("copy", label, "a", "b") for label in "zxy"]
+        program = Program(["a", "b"], [*rows, ("show", "w", "a")])
+        self.assertEqual(least_cuts(program, ["shows"]), [["x", "y"], ["x", "z"], ["y", "z"]])
+        self.assertEqual(bars(program, ["shows"]), [])
+        self.assertEqual(bars(Program(["a", "b"], [*rows[:2], ("show", "w", "a")]), ["shows"]), [("x", "z")])
+        program = Program(["a", "b"], [
+            ("copy", "z", "a", "b"), ("copy", "x", "a", "b"), ("show", "w", "a"), ("set", "s", "b", []),
+            ("copy", "u", "a", "b"), ("copy", "t", "a", "b"), ("show", "v", "a"),
+        ])
+        self.assertEqual(bars(program, ["shows"]), [("t", "u"), ("x", "z")])
+
     def test_the_loop(self):
         self.assertEqual(right_cuts(small(), ["shows", "ends"]), [[], ["l", "s"]])
         self.assertEqual(least_cuts(small(), ["shows", "ends"]), [["l", "s"]])
@@ -108,6 +120,8 @@ class ByHand(Case):
         })
         for wish in (["shows"], ["ends", "no more"], VOWS):
             self.assertIn(("d", "e"), helps(program, wish))
+        rows = [("call", "e", "q"), ("call", "d", "q"), ("show", "w", "a")]
+        self.assertIn(("d", "e"), helps(Program(["a", "b", "c"], rows, parts=program.parts()), ["shows"]))
         self.assertIn(["d", "e", "x", "y", "z"], least_cuts(program, ["shows"]))
         self.assertEqual(helps(program, ["ends"]), [])
 
