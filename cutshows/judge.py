@@ -145,9 +145,12 @@ def _are_papers(program, cut, wish, value):
 
 
 def _against(program, cut, wish):
-    """A tuple of a vow of the wish and the yes lists of a play against it, for a cut that is not right."""
-    broken = [vow for vow in wish if not is_right(program, cut, [vow])][0]
-    return (broken, *play_against(program, cut, broken).yes_lists())
+    """A tuple of a vow of the wish and the yes lists of a play against it; None if the cut is right."""
+    for vow in wish:
+        played = play_against(program, cut, vow)
+        if played is not None:
+            return (vow, *played.yes_lists())
+    return None
 
 
 def _is_against(program, cut, wish, value):
